@@ -1,0 +1,1 @@
+"""Failslack: promises of work that may fail and be done anew."""
