@@ -1,6 +1,7 @@
-"""Rules of ../shared/LANGUAGE.md that are plain to see in the files: L1, L2, L8, L10, L14, L17, L18, L27."""
+"""Rules of ../shared/LANGUAGE.md that are plain to see in the files: L1, L2, L8, L10, L14 to L18, L27."""
 
 import ast
+import builtins
 import pathlib
 import re
 import unittest
@@ -51,6 +52,29 @@ class LanguageTest(unittest.TestCase):
             self.assertIsInstance(node, ast.ImportFrom, name)
             self.assertEqual(node.level, 0, name)
             self.assertRegex(node.module, r"\Afailslack\.[a-z_]+\Z", name)
+
+    def test_no_two_files_import_from_each_other(self):
+        wants = {path.stem: [] for path in FILES}
+        for name, node in nodes(ast.ImportFrom):
+            wants[name.removesuffix(".py")].append(node.module.removeprefix("failslack."))
+        while wants:
+            free = [name for name, others in wants.items() if not any(other in wants for other in others)]
+            self.assertNotEqual(free, [], wants)
+            wants = {name: others for name, others in wants.items() if name not in free}
+
+    def test_no_local_name_has_another_meaning(self):
+        for name, tree in trees():
+            taken = set(dir(builtins))
+            for node in ast.walk(tree):
+                if isinstance(node, ast.ImportFrom):
+                    taken.update(part.name for part in node.names)
+                if isinstance(node, ast.ClassDef):
+                    taken.add(node.name)
+            for node in ast.walk(tree):
+                if isinstance(node, ast.Name) and isinstance(node.ctx, ast.Store):
+                    self.assertNotIn(node.id, taken, name)
+                if isinstance(node, ast.arg):
+                    self.assertNotIn(node.arg, taken, name)
 
     def test_no_percent_sign_in_a_string(self):
         for name, node in nodes(ast.Constant):
