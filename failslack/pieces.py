@@ -50,6 +50,12 @@ def good_rows(rows):
     return tuple(good)
 
 
+def need_turn(thing):
+    """Refuses what is no turn that may come next: all turns, and the one behind them."""
+    if not is_within(thing, 0, LAST_TURN + 1):
+        raise NoTurn(thing)
+
+
 def row_since(row, now):
     """A row whose first turn is not ahead of now, but at most the turn behind its last one."""
     first = min(max(row[1], now), row[2] + 1)
@@ -102,8 +108,7 @@ class Pieces:
 
     def since(self, now):
         """Other pieces, as they are at this turn."""
-        if not is_within(now, 0, LAST_TURN + 1):
-            raise NoTurn(now)
+        need_turn(now)
         return Pieces([row_since(row, now) for row in self.held])
 
     def place(self, name):
