@@ -17,10 +17,10 @@ def show_pieces(pieces):
     return "\n".join([show_row(row) for row in pieces.told()])
 
 
-def read_row(line):
-    """The row that a line writes, None where it has not the form of one."""
+def read_row(line, sizes):
+    """The row of one of these sizes that a line writes, a name and numbers, None where it has not the form of one."""
     words = line.split(" ")
-    if len(words) not in (4, 5) or not is_name(words[0]):
+    if len(words) not in sizes or not is_name(words[0]):
         return None
     numbers = [number_of(word) for word in words[1:]]
     if None in numbers:
@@ -28,13 +28,13 @@ def read_row(line):
     return (words[0], *numbers)
 
 
-def read_rows(text):
-    """The rows that a text writes, refused with BadText where one has not the form."""
+def read_rows(text, sizes):
+    """The rows of these sizes that a text writes, refused with BadText where one has not the form."""
     if not isinstance(text, str):
         raise BadText(0, "form")
     if text == "":
         return []
-    rows = [read_row(line) for line in text.split("\n")]
+    rows = [read_row(line, sizes) for line in text.split("\n")]
     if None in rows:
         raise BadText(rows.index(None), "form")
     return rows
@@ -42,7 +42,7 @@ def read_rows(text):
 
 def read_pieces(text):
     """The pieces that a text tells."""
-    rows = read_rows(text)
+    rows = read_rows(text, (4, 5))
     try:
         return Pieces(rows)
     except BadPieces as e:

@@ -1,5 +1,6 @@
 """All stretches of pieces weighed for failings, and whether the pieces are kept."""
 
+from failslack.errors import NotKept
 from failslack.stretches import need_failings, need_of, turns_of, weights_of
 from failslack.words import is_whole
 
@@ -22,6 +23,12 @@ def too_short(pieces, failings):
 def is_kept(pieces, failings):
     """Whether no stretch has a need that is greater than its room."""
     return too_short(pieces, failings) is None
+
+
+def need_kept(pieces, failings):
+    """Refuses pieces that are not kept."""
+    if not is_kept(pieces, failings):
+        raise NotKept()
 
 
 def is_table(pieces, failings, thing):
