@@ -43,6 +43,11 @@ class BorneTest(unittest.TestCase):
             self.assertEqual(borne(Pieces(rows)), -1)
         self.assertEqual(borne(Pieces([*ROWS, ("a", 0, 0, 12)])), -1)
 
+    def test_far_below_none_it_is_minus_one_too(self):
+        for many in (2, 3, 30):
+            self.assertEqual(borne(Pieces([(f"a{at}", 5, 5, 2) for at in range(many)])), -1)
+            self.assertEqual(borne(Pieces([(f"a{at}", 5, 4, 12) for at in range(many)])), -1)
+
     def test_empty_windows_with_nothing_left(self):
         self.assertEqual(borne(Pieces([("a", 200, 199, 1, 0)])), 0)
 

@@ -251,6 +251,8 @@ class FewerTest(unittest.TestCase):
         self.assertEqual(fewer(pieces, 2, ("oil", 10, 11, 3)), -1)
         self.assertEqual(fewer(pieces, 0, ("oil", 10, 11, 3)), -1)
         self.assertEqual(fewer(pieces, 2, ("oil", 10, 9, 1)), -1)
+        full = Pieces([("a", 0, 1, 1), ("b", 0, 1, 1)])
+        self.assertEqual(fewer(full, 0, ("oil", 0, 0, 1)), -1)
 
     def test_all_sorts(self):
         found = []
